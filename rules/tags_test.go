@@ -140,7 +140,7 @@ func wantTags(text string) (api.Tags, bool) {
 
 // Every text of up to 6 bytes of those that mean something to a list.
 func TestEveryShortList(t *testing.T) {
-	const letters = "\"W/, *\xff"
+	const letters = "\"W/, \t*\xff"
 	texts := []string{""}
 	for range 6 {
 		var longer []string
