@@ -10,8 +10,8 @@ import (
 	"vault/wire"
 )
 
-// askKey answers what is asked of one key (P9, and ?versions of P10). The stripe's lock is held from the weighing of conditions to the change, so that nothing comes between them.
-func (s *Store) askKey(q wire.Request) wire.Answer {
+// askKey answers what is asked of one key (P9, and ?versions of P10). The stripe's lock is held from the weighing of conditions to the change, so that nothing comes between them. What admit tells decides about a key that is not known yet.
+func (s *Store) askKey(q wire.Request, admit func() bool) wire.Answer {
 	t := s.stripeOf(q.Target.Key)
 	t.lock.Lock()
 	defer t.lock.Unlock()
@@ -25,7 +25,7 @@ func (s *Store) askKey(q wire.Request) wire.Answer {
 	}
 	switch q.Method {
 	case wire.Put:
-		return s.put(t, e, q.Body)
+		return s.put(t, e, q.Body, admit)
 	case wire.Delete:
 		if q.Target.Kind == wire.Version {
 			return removeVersion(e, q.Target.Number)
@@ -53,8 +53,8 @@ func weigh(ask api.Ask, v version, there bool) int {
 	return rules.Judge(ask)
 }
 
-func (s *Store) put(t *stripe, e *entry, body string) wire.Answer {
-	if e.isFull() || !e.isKnown() && !s.common.admit() {
+func (s *Store) put(t *stripe, e *entry, body string, admit func() bool) wire.Answer {
+	if e.isFull() || !e.isKnown() && !admit() {
 		return refuse(api.NoRoom)
 	}
 	if !e.isKnown() {

@@ -12,13 +12,17 @@ type stripe struct {
 	entries []*entry // those that are known, in rising order of their keys
 }
 
-// stripeOf deals a key to a stripe.
 func (s *Store) stripeOf(key string) *stripe {
+	return &s.stripes[s.stripeNumber(key)]
+}
+
+// stripeNumber deals a key to a stripe.
+func (s *Store) stripeNumber(key string) int {
 	var hash uint32
 	for i := range len(key) {
 		hash = hash*31 + uint32(key[i])
 	}
-	return &s.stripes[hash%uint32(len(s.stripes))]
+	return int(hash % uint32(len(s.stripes)))
 }
 
 // place tells where a key stands, or would stand.

@@ -30,6 +30,12 @@ func TestLocksAreGivenBack(t *testing.T) {
 	for _, request := range []string{"PUT /k||a", "PUT /k|If-Match: \"x\"||", "GET /k||", "HEAD /l||", "GET /k?versions||", "GET /||", "GET /?after=k||", "DELETE /k||", "DELETE /k||", "DELETE /k?v=1||", "DELETE /k?v=1||", "PUT /||", "x"} {
 		s.Do(crlfs(request))
 		s.Tick(-1)
+		s.Batch([]string{crlfs(request), "GET /\r\n\r\n", crlfs(request)}, 2)
+		s.Batch(nil, 0)
+		if !s.turn.TryLock() {
+			t.Fatalf("after %q the lock of batches is taken", request)
+		}
+		s.turn.Unlock()
 		for i := range s.stripes {
 			if !s.stripes[i].lock.TryLock() {
 				t.Fatalf("after %q the lock of stripe %d is taken", request, i)

@@ -174,6 +174,68 @@ func TestAllAtOnce(t *testing.T) {
 	}
 }
 
+// TestBatchesTogether: a batch has the store to itself, so that whatever is asked at once sees all of it or nothing, and no time goes by in it.
+func TestBatchesTogether(t *testing.T) {
+	for round := range 100 {
+		s := newStore(t, 1+round%api.MaxStripes)
+		keys := manyKeys(20)
+		var first []string
+		for _, key := range keys {
+			first = append(first, "PUT /"+key+"\r\n\r\nfirst")
+		}
+		batch(t, s, first, api.MaxWorkers)
+		together(8, func(i int) {
+			for n := range 4 {
+				s.Tick(1)
+				if i%2 == 0 {
+					var writes []string
+					for _, key := range keys {
+						writes = append(writes, fmt.Sprintf("PUT /%s\r\n\r\n%d of %d", key, n, i))
+					}
+					batch(t, s, append(writes, "GET /\r\n\r\n"), 1+i)
+				}
+				list := s.Do("GET /\r\n\r\n")
+				_, tag, _ := strings.Cut(list, "key00 ")
+				tag, _, _ = strings.Cut(tag, "\n")
+				if strings.Count(list, tag+"\n") != len(keys) {
+					t.Errorf("P11: a list that has seen a part of a batch: %q", list)
+				}
+			}
+		})
+		versions := s.Do("GET /" + keys[0] + "?versions\r\n\r\n")
+		for _, key := range keys {
+			if other := s.Do("GET /" + key + "?versions\r\n\r\n"); other != versions {
+				t.Errorf("P11: %s has the versions %q, %s has %q", key, other, keys[0], versions)
+			}
+		}
+	}
+}
+
+// TestBatchesOfOneWriter: of PUTs by one tag in batches that are asked at once, one is made (P14).
+func TestBatchesOfOneWriter(t *testing.T) {
+	for round := range 100 {
+		s := newStore(t, 1+round%api.MaxStripes)
+		s.Do("PUT /k\r\n\r\na")
+		told := make([][]string, 6)
+		together(len(told), func(i int) {
+			var requests []string
+			for n := range 10 {
+				requests = append(requests, fmt.Sprintf("PUT /k\r\nIf-Match: %s\r\n\r\n%d of %d", tagA, n, i))
+			}
+			told[i] = append(batch(t, s, requests, 1+i), s.Do(requests[0]))
+		})
+		count := map[string]int{}
+		for _, answers := range told {
+			for _, a := range answers {
+				count[a[:3]]++
+			}
+		}
+		if count["200"] != 1 || count["412"] != 65 {
+			t.Errorf("P14: of writes by one tag %v", count)
+		}
+	}
+}
+
 // TestRequestIsNotKept overwrites the bytes of a request behind the store's back.
 func TestRequestIsNotKept(t *testing.T) {
 	s := newStore(t, 3)
