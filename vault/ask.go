@@ -6,12 +6,13 @@ import (
 	"strings"
 
 	"vault/api"
+	"vault/journal"
 	"vault/rules"
 	"vault/wire"
 )
 
-// askKey answers what is asked of one key (P9, and ?versions of P10). The stripe's lock is held from the weighing of conditions to the change, so that nothing comes between them. What admit tells decides about a key that is not known yet.
-func (s *Store) askKey(q wire.Request, admit func() bool) wire.Answer {
+// askKey answers what is asked of one key (P9, and ?versions of P10). The stripe's lock is held from the weighing of conditions to the change and its record, so that nothing comes between them.
+func (s *Store) askKey(q wire.Request, b book) wire.Answer {
 	t := s.stripeOf(q.Target.Key)
 	t.lock.Lock()
 	defer t.lock.Unlock()
@@ -23,14 +24,8 @@ func (s *Store) askKey(q wire.Request, admit func() bool) wire.Answer {
 	if told := weigh(q.Ask, v, there); told != 0 {
 		return refuse(told)
 	}
-	switch q.Method {
-	case wire.Put:
-		return s.put(t, e, q.Body, admit)
-	case wire.Delete:
-		if q.Target.Kind == wire.Version {
-			return removeVersion(e, q.Target.Number)
-		}
-		return s.deleteKey(e)
+	if q.Ask.Write {
+		return t.changeKey(e, wanted(q, e), b)
 	}
 	if !there {
 		return refuse(api.NotThere)
@@ -53,36 +48,26 @@ func weigh(ask api.Ask, v version, there bool) int {
 	return rules.Judge(ask)
 }
 
-func (s *Store) put(t *stripe, e *entry, body string, admit func() bool) wire.Answer {
-	if e.isFull() || !e.isKnown() && !admit() {
-		return refuse(api.NoRoom)
+// wanted is the record of what a request wants to be done.
+func wanted(q wire.Request, e *entry) journal.Record {
+	switch {
+	case q.Method == wire.Put:
+		return journal.Record{Kind: journal.Put, Key: e.key, Number: e.next(), Body: q.Body}
+	case q.Target.Kind == wire.Version:
+		return journal.Record{Kind: journal.Removal, Key: e.key, Number: q.Target.Number}
 	}
-	if !e.isKnown() {
-		t.insert(e)
-	}
-	told := api.Made
-	if _, there := e.current(); there {
-		told = api.Fine
-	}
-	number := e.add(s.common.now(), body)
-	return answer(told, tagField(body), numberField(number))
+	return journal.Record{Kind: journal.Mark, Key: e.key, Number: e.next()}
 }
 
-func (s *Store) deleteKey(e *entry) wire.Answer {
-	if _, there := e.current(); !there {
-		return refuse(api.NotThere)
+func (t *stripe) changeKey(e *entry, r journal.Record, b book) wire.Answer {
+	told, done := t.change(e, r, b)
+	if !done {
+		return refuse(told)
 	}
-	if e.isFull() {
-		return refuse(api.NoRoom)
+	if r.Kind == journal.Put {
+		return answer(told, tagField(r.Body), numberField(r.Number))
 	}
-	return answer(api.Done, numberField(e.addMark(s.common.now())))
-}
-
-func removeVersion(e *entry, number int) wire.Answer {
-	if !e.remove(number) {
-		return refuse(api.NotThere)
-	}
-	return answer(api.Done, numberField(number))
+	return answer(told, numberField(r.Number))
 }
 
 func tellVersion(v version, method wire.Method) wire.Answer {

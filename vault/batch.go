@@ -4,6 +4,7 @@ import (
 	"slices"
 	"sync"
 
+	"vault/journal"
 	"vault/wire"
 )
 
@@ -12,7 +13,22 @@ type task struct {
 	request wire.Request
 	told    int  // what is told without asking the store; 0 if it is to be asked
 	room    bool // there is room for its key, should that not be known yet
+	done    bool // something was done, and record tells what
+	record  journal.Record
 	answer  string
+}
+
+// page is the book of one task. What it takes goes into the journal when the batch ends, by the order of the requests, not by which goroutine comes first.
+type page struct {
+	*common
+	task *task
+}
+
+func (p page) admit() bool { return p.task.room }
+
+func (p page) enter(r journal.Record) int {
+	p.task.record, p.task.done = r, true
+	return p.now()
 }
 
 // readTasks answers, too, what is told without asking the store.
@@ -33,15 +49,25 @@ func (s *Store) work(tasks []task, workers int) {
 	s.turn.Lock()
 	defer s.turn.Unlock()
 	s.keepRoom(tasks)
-	for len(tasks) > 0 {
-		count := untilList(tasks)
-		s.askTogether(tasks[:count], workers)
-		if count < len(tasks) {
-			list := &tasks[count]
+	for rest := tasks; len(rest) > 0; {
+		count := untilList(rest)
+		s.askTogether(rest[:count], workers)
+		if count < len(rest) {
+			list := &rest[count]
 			list.answer = s.listKeys(list.request.Target.Key).Text()
 			count++
 		}
-		tasks = tasks[count:]
+		rest = rest[count:]
+	}
+	s.enterAll(tasks)
+}
+
+// enterAll writes the records of what was done. Their time is still that at which it was done: in a batch no time goes by.
+func (s *Store) enterAll(tasks []task) {
+	for i := range tasks {
+		if t := &tasks[i]; t.done {
+			s.common.enter(t.record)
+		}
 	}
 }
 
@@ -108,6 +134,6 @@ func (s *Store) deal(tasks []task, workers int) [][]*task {
 
 func (s *Store) askInTurn(share []*task) {
 	for _, t := range share {
-		t.answer = s.askKey(t.request, func() bool { return t.room }).Text()
+		t.answer = s.askKey(t.request, page{&s.common, t}).Text()
 	}
 }

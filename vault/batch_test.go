@@ -248,6 +248,7 @@ func TestBatchAgainstDo(t *testing.T) {
 			if now, want := state(c.store), state(alone); now != want {
 				t.Fatalf("P11: %d stripes, %d workers: the store is\n%s\nwant\n%s", c.stripes, c.workers, now, want)
 			}
+			wantLog(t, c.store, m.log)
 		}
 		last := all[len(all)-1].store
 		if now, want := tellAll(last, d.allKeys()), tellAll(alone, d.allKeys()); now != want {
@@ -300,6 +301,7 @@ func TestBatchRoom(t *testing.T) {
 			if now, want := state(c.store), state(all[0].store); now != want {
 				t.Fatalf("P11: %d stripes, %d workers: the store is\n%s\nwant\n%s", c.stripes, c.workers, now, want)
 			}
+			wantLog(t, c.store, m.log)
 		}
 	}
 }

@@ -4,13 +4,15 @@ import (
 	"sync"
 
 	"vault/api"
+	"vault/journal"
 )
 
 // common is what belongs to no stripe. Its lock is taken last: whoever holds it takes no other.
 type common struct {
-	lock sync.Mutex
-	time int
-	keys int // how many are known
+	lock    sync.Mutex
+	time    int
+	keys    int    // how many are known
+	journal []byte // the records of all that was done
 }
 
 func (c *common) now() int {
@@ -39,4 +41,19 @@ func (c *common) admit() bool {
 	}
 	c.keys++
 	return true
+}
+
+// enter reads the time and writes the record under one lock: if time could go by between the two, a record might come to stand behind one of a later time, and Open would not follow.
+func (c *common) enter(r journal.Record) int {
+	c.lock.Lock()
+	defer c.lock.Unlock()
+	r.Time = c.time
+	c.journal = append(c.journal, r.Text()...)
+	return c.time
+}
+
+func (c *common) log() string {
+	c.lock.Lock()
+	defer c.lock.Unlock()
+	return string(c.journal)
 }

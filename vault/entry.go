@@ -6,6 +6,7 @@ import (
 	"strings"
 
 	"vault/api"
+	"vault/journal"
 )
 
 // version is one version of a key, or a mark.
@@ -52,31 +53,24 @@ func (e *entry) place(number int) int {
 	return slices.IndexFunc(e.versions, func(v version) bool { return v.number == number })
 }
 
-// add puts a body behind all versions, and gives its number.
-func (e *entry) add(time int, body string) int {
-	return e.push(version{time: time, body: strings.Clone(body)})
+// next is the number that the next version is given.
+func (e *entry) next() int { return e.last + 1 }
+
+// push puts the version, or mark, of a record behind all others.
+func (e *entry) push(r journal.Record) {
+	e.last = r.Number
+	e.versions = append(e.versions, version{
+		number: r.Number,
+		time:   r.Time,
+		mark:   r.Kind == journal.Mark,
+		body:   strings.Clone(r.Body),
+	})
 }
 
-// addMark puts a mark behind all versions, and gives its number.
-func (e *entry) addMark(time int) int {
-	return e.push(version{time: time, mark: true})
-}
-
-func (e *entry) push(v version) int {
-	e.last++
-	v.number = e.last
-	e.versions = append(e.versions, v)
-	return v.number
-}
-
-// remove takes a version away; false if it is not there.
-func (e *entry) remove(number int) bool {
+// remove takes a version away that is there.
+func (e *entry) remove(number int) {
 	place := e.place(number)
-	if place < 0 {
-		return false
-	}
 	e.versions = slices.Delete(e.versions, place, place+1)
-	return true
 }
 
 // line is what ?versions tells of a version.

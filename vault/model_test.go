@@ -1,7 +1,9 @@
 package vault
 
 import (
+	"encoding/binary"
 	"fmt"
+	"hash/fnv"
 	"maps"
 	"regexp"
 	"slices"
@@ -15,6 +17,7 @@ import (
 type model struct {
 	time int
 	keys map[string]*modelKey
+	log  string
 }
 
 type modelKey struct {
@@ -153,12 +156,14 @@ func (m *model) ofKey(method, target string, ask api.Ask, body string) string {
 			told = 200
 		}
 		n := key.put(modelVersion{time: m.time, body: body})
+		m.log += record(1, m.time, name, n, body)
 		return fmt.Sprintf("%d\r\nETag: %q\r\nVersion: %d\r\n\r\n", told, rules.Tag(body), n)
 	case method == "DELETE" && parts[2] != "":
 		if !has {
 			return "404\r\n\r\n"
 		}
 		delete(key.versions, number)
+		m.log += record(3, m.time, name, number, "")
 		return fmt.Sprintf("204\r\nVersion: %d\r\n\r\n", number)
 	case !there:
 		return "404\r\n\r\n"
@@ -166,7 +171,9 @@ func (m *model) ofKey(method, target string, ask api.Ask, body string) string {
 		if full {
 			return "507\r\n\r\n"
 		}
-		return fmt.Sprintf("204\r\nVersion: %d\r\n\r\n", key.put(modelVersion{time: m.time, gone: true}))
+		n := key.put(modelVersion{time: m.time, gone: true})
+		m.log += record(2, m.time, name, n, "")
+		return fmt.Sprintf("204\r\nVersion: %d\r\n\r\n", n)
 	}
 	out := fmt.Sprintf("200\r\nETag: %q\r\nLast-Modified: %s\r\nVersion: %d\r\n\r\n", rules.Tag(v.body), rules.Stamp(v.time), number)
 	if method == "GET" {
@@ -214,4 +221,72 @@ func (m *model) listKeys(after string) string {
 	}
 	last, _, _ := strings.Cut(lines[49], " ")
 	return "200\r\nMore: " + last + "\r\n\r\n" + strings.Join(lines[:50], "")
+}
+
+// record is the bytes of one (P12), right or not.
+func record(kind byte, time int, key string, number int, body string) string {
+	out := binary.BigEndian.AppendUint64([]byte{kind}, uint64(time))
+	out = append(append(out, byte(len(key))), key...)
+	out = binary.BigEndian.AppendUint32(out, uint32(number))
+	return framed(string(out) + body)
+}
+
+// framed puts the length ahead of a payload and the check behind it.
+func framed(payload string) string {
+	hash := fnv.New32a()
+	hash.Write([]byte(payload))
+	out := binary.BigEndian.AppendUint16(nil, uint16(len(payload)))
+	out = append(out, payload...)
+	return string(hash.Sum(out))
+}
+
+// openModel follows a journal by asking a model for what each record says: it holds if the model writes the very same record of it.
+func openModel(log string) *model {
+	m := newModel()
+	for {
+		request, time, ok := requestOf(log[len(m.log):])
+		if !ok || time < m.time || time > api.MaxClock {
+			return m
+		}
+		try := m.clone()
+		try.time = time
+		try.do(request)
+		if try.log == m.log || !strings.HasPrefix(log, try.log) {
+			return m
+		}
+		m = try
+	}
+}
+
+// requestOf gives the request that a record could be of, and its time; false if there is none.
+func requestOf(log string) (string, int, bool) {
+	if len(log) < 2 {
+		return "", 0, false
+	}
+	size := int(binary.BigEndian.Uint16([]byte(log)))
+	if len(log) < 2+size || size < 10 {
+		return "", 0, false
+	}
+	payload := []byte(log[2 : 2+size])
+	time, rest := int(binary.BigEndian.Uint64(payload[1:])), payload[10:]
+	keySize := int(payload[9])
+	if len(rest) < keySize+4 {
+		return "", 0, false
+	}
+	key, number, body := rest[:keySize], binary.BigEndian.Uint32(rest[keySize:]), rest[keySize+4:]
+	switch payload[0] {
+	case 1:
+		return fmt.Sprintf("PUT /%s\r\n\r\n%s", key, body), time, true
+	case 2:
+		return fmt.Sprintf("DELETE /%s\r\n\r\n", key), time, true
+	}
+	return fmt.Sprintf("DELETE /%s?v=%d\r\n\r\n", key, number), time, true
+}
+
+func (m *model) clone() *model {
+	out := &model{time: m.time, keys: map[string]*modelKey{}, log: m.log}
+	for name, key := range m.keys {
+		out.keys[name] = &modelKey{given: key.given, versions: maps.Clone(key.versions)}
+	}
+	return out
 }

@@ -113,6 +113,7 @@ func TestAgainstModel(t *testing.T) {
 			if state(s) != state(stores[0]) {
 				t.Fatalf("P2: with %d stripes the store is\n%s\nwith one\n%s", i+1, state(s), state(stores[0]))
 			}
+			wantLog(t, s, m.log)
 		}
 	}
 }

@@ -32,6 +32,7 @@ func TestLocksAreGivenBack(t *testing.T) {
 		s.Tick(-1)
 		s.Batch([]string{crlfs(request), "GET /\r\n\r\n", crlfs(request)}, 2)
 		s.Batch(nil, 0)
+		s.Log()
 		if !s.turn.TryLock() {
 			t.Fatalf("after %q the lock of batches is taken", request)
 		}

@@ -51,7 +51,7 @@ func state(s *Store) string {
 		}
 	}
 	slices.Sort(lines)
-	return fmt.Sprintf("time %d, %d keys\n%s", s.common.time, s.common.keys, strings.Join(lines, "\n"))
+	return fmt.Sprintf("time %d, %d keys, journal %q\n%s", s.common.time, s.common.keys, s.common.journal, strings.Join(lines, "\n"))
 }
 
 func TestNew(t *testing.T) {

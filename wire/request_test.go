@@ -81,7 +81,7 @@ func TestKeyAndNameBytes(t *testing.T) {
 	letters := "abcdefghijklmnopqrstuvwxyzABCDEFGHIJKLMNOPQRSTUVWXYZ0123456789"
 	for c := range 256 {
 		text := string([]byte{byte(c)})
-		if want := strings.Contains(letters+"._-", text); isKey(text) != want || isKey("a"+text) != want {
+		if want := strings.Contains(letters+"._-", text); IsKey(text) != want || IsKey("a"+text) != want {
 			t.Errorf("P7: the byte %d in a key: %v, want %v", c, !want, want)
 		}
 		if want := strings.Contains(letters+"-", text); isName(text) != want || isName("a"+text) != want {

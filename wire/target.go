@@ -35,10 +35,10 @@ func readTarget(text string) (Target, bool) {
 		return Target{Kind: Keys}, true
 	}
 	if after, ok := strings.CutPrefix(path, "?after="); ok {
-		return Target{Kind: Keys, Key: after}, isKey(after)
+		return Target{Kind: Keys, Key: after}, IsKey(after)
 	}
 	key, query, asked := strings.Cut(path, "?")
-	if !isKey(key) {
+	if !IsKey(key) {
 		return Target{}, false
 	}
 	if !asked {
@@ -74,7 +74,8 @@ func readNumber(digits string) (int, bool) {
 	return number, true
 }
 
-func isKey(text string) bool {
+// IsKey tells whether a text is of the form of a key.
+func IsKey(text string) bool {
 	if text == "" || len(text) > api.MaxKey {
 		return false
 	}
